@@ -1,0 +1,1 @@
+"""Rising shelves of numbers: where they meet, and how they are looked at."""
