@@ -1,4 +1,4 @@
-"""Looks at two shelves: what they tell, and which are made by steps and by leaps."""
+"""Looks at two shelves: what they tell, which are made by steps and by leaps, and which are needed."""
 
 from shelvesmeet.checks import check_looks, check_two
 
@@ -7,7 +7,7 @@ def answers(one, other, looks):
     """What each look tells: -1, 0 or 1, as the first shelf's number is less, the same, more."""
     check_two(one, other)
     check_looks(looks, one, other)
-    return [compared(one[mine], other[theirs]) for mine, theirs in looks]
+    return told_by(one, other, looks)
 
 
 def by_steps(one, other):
@@ -36,6 +36,11 @@ def by_leaps(one, other):
         looks.extend([(mine, theirs) for theirs in leaps + halfways])
         begin = next_begin(number, other, low)
     return looks
+
+
+def told_by(one, other, looks):
+    """What each look tells."""
+    return [compared(one[mine], other[theirs]) for mine, theirs in looks]
 
 
 def compared(number, other_number):
@@ -80,3 +85,25 @@ def next_begin(number, other, low):
     if low < len(other) and other[low] == number:
         return low + 1
     return low
+
+
+def needed_looks(one, other):
+    """The fewest looks, in order, by which it is shown where the two meet.
+
+    Without the one at a place where they meet, the two numbers there might be
+    unlike; without the one at two neighbours, these two might be the same. With
+    them all, the turn of all numbers of both is known.
+    """
+    numbers = sorted(set(one + other))
+    looks = [(one.index(number), other.index(number)) for number in numbers if number in one and number in other]
+    for low, high in zip(numbers, numbers[1:]):
+        if low not in other and high not in one:
+            looks.append((one.index(low), other.index(high)))
+        if low not in one and high not in other:
+            looks.append((one.index(high), other.index(low)))
+    return sorted(looks)
+
+
+def unlooked(one, other, looks):
+    """The needed looks, in order, that aren't among these."""
+    return [look for look in needed_looks(one, other) if look not in looks]

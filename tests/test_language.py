@@ -7,7 +7,7 @@ import re
 import unittest
 from pathlib import Path
 
-from shelvesmeet import looks, shelves
+from shelvesmeet import answers, best, looks, shelves, shown, squeezed
 
 FOLDER = Path(looks.__file__).parent
 FILES = sorted(FOLDER.glob("*.py"))
@@ -27,7 +27,26 @@ INTERFACE = [
     (looks.answers, ["one", "other", "looks"]),
     (looks.by_steps, ["one", "other"]),
     (looks.by_leaps, ["one", "other"]),
+    (answers.Shown, []),
+    (answers.Open, ["mine", "theirs"]),
+    (answers.Read, ["shelf"]),
+    (answers.Broken, ["place"]),
+    (answers.Settled, ["things"]),
+    (answers.Unsettled, ["worths"]),
+    (shown.judged, ["one", "other", "looks"]),
+    (shown.fewest_looks, ["one", "other"]),
+    (squeezed.bits, ["shelf"]),
+    (squeezed.read, ["text"]),
+    (squeezed.halves, ["shelf", "low"]),
+    (squeezed.at_place, ["shelf", "low", "place"]),
+    (squeezed.room, ["shelf", "low"]),
+    (squeezed.best_low, ["shelf"]),
+    (best.best, ["lists", "many"]),
+    (best.judged_to, ["lists", "many", "depth"]),
+    (best.depth_of, ["lists", "many"]),
 ]
+# What is iterated at once and never kept.
+AT_ONCE = {"zip", "enumerate", "range", "reversed"}
 
 
 class Language(unittest.TestCase):
@@ -62,6 +81,12 @@ class Language(unittest.TestCase):
             self.assertEqual(node.decorator_list, [])
         if isinstance(node, ast.Constant):
             self.assertNotIsInstance(node.value, (float, complex))
+        if isinstance(node, (ast.Assign, ast.Return)) and isinstance(node.value, ast.Call):
+            self.assertNotIn(getattr(node.value.func, "id", ""), AT_ONCE)
+        if isinstance(node, ast.BinOp) and isinstance(node.op, ast.Pow):
+            self.assertIsInstance(node.right, ast.Constant)
+        if isinstance(node, ast.Compare) and isinstance(node.ops[0], (ast.Is, ast.IsNot)):
+            self.assertIn(ast.unparse(node.comparators[0]), ("None", "True", "False"))
         if isinstance(node, ast.Name):
             self.assertFalse(node.id.startswith("_"))
         if isinstance(node, ast.Name) and node.id in dir(builtins):
