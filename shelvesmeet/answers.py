@@ -55,7 +55,7 @@ class Broken(Answer):
     """The place of a text at which a gap begins that doesn't end within it."""
 
     def __init__(self, place):
-        self.place = place
+        self.place = copied(place)
 
     def shows(self, text):
         """Whether it is so of this text."""

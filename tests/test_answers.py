@@ -43,6 +43,13 @@ class Classes(unittest.TestCase):
             self.assertEqual(vars(told), {field: handed[field] for field in fields})
 
 
+def lists_of(value):
+    """The value and the members of it that are lists."""
+    if not isinstance(value, list):
+        return []
+    return [value] + [member for member in value if isinstance(member, list)]
+
+
 class Copied(unittest.TestCase):
     def test_lists_are_copied(self):
         mine, theirs, shelf, things = [1], [2], [3], [0]
@@ -67,6 +74,27 @@ class Copied(unittest.TestCase):
         told.worths[0].append(5)
         self.assertEqual(told.worths[1], [1, 2])
         self.assertEqual(row, [77, 2])
+
+    def test_every_field_of_every_answer(self):
+        # A field may be handed a kind of value that its answer never shows by, as a place that is a list.
+        for name, fields in CLASSES.items():
+            for field in fields:
+                for handed in (7, -GREAT, [], [3, 4], [[1], [2]], [[], [1, 2]], [5, [1]]):
+                    with self.subTest(answer=name, field=field, handed=handed):
+                        self.check_copied(name, fields, field, handed)
+
+    def check_copied(self, name, fields, field, handed):
+        ahead = deepcopy(handed)
+        told = getattr(answers, name)(**{each: handed if each == field else [0] for each in fields})
+        kept = getattr(told, field)
+        self.assertEqual(kept, ahead)
+        for changed in lists_of(handed):
+            changed.append(99)
+        self.assertEqual(getattr(told, field), ahead)
+        changed_ahead = deepcopy(handed)
+        for changed in lists_of(kept):
+            changed.append(77)
+        self.assertEqual(handed, changed_ahead)
 
     def test_each_answer_has_its_own(self):
         shelf = [1, 2]
@@ -238,6 +266,11 @@ class BrokenByHand(unittest.TestCase):
     def test_true_and_false_are_no_numbers(self):
         self.assertIs(Broken(False).shows("0"), False)
         self.assertIs(Broken(True).shows("10"), False)
+
+    def test_a_list_is_no_place(self):
+        for place in ([], [0], [1], [[0]], [[0], [1]], [0, [1]]):
+            for text in ("", "0", "1", "10", "0000"):
+                self.assertIs(Broken(place).shows(text), False)
 
     def test_by_the_field_as_it_stands(self):
         told = Broken(0)
